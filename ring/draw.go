@@ -9,16 +9,27 @@ import (
 // noiseSize is how many bytes Noise draws: four digits a number.
 const noiseSize = 128
 
+// mostDraws is how many draws of two numbers Uniform makes at most. The standard asks for as many as it takes, and allows a bound of 280 or more (appendix B): this one is so high that no argument is known that comes to it.
+const mostDraws = 1 << 16
+
 // Uniform is FIPS 203's SampleNTT of seed, i and j, one behind the other.
 func Uniform(seed []byte, i, j byte) Poly {
-	r := sha3.NewReader(seed, []byte{i, j})
+	return filled(sha3.NewReader(seed, []byte{i, j}).Read)
+}
+
+// filled is the first numbers below q of what read draws; where the draws are over first, those that are wanting are 0.
+func filled(read func(n int) []byte) Poly {
 	var out Poly
-	for count := 0; count < len(out); {
-		for _, x := range pair(r.Read(3)) {
+	count := 0
+	for range mostDraws {
+		for _, x := range pair(read(3)) {
 			// All numbers below q are as likely only if those above are passed over.
-			if x < q && count < len(out) {
+			if x < q {
 				out[count] = x
 				count++
+			}
+			if count == len(out) {
+				return out
 			}
 		}
 	}
