@@ -42,10 +42,10 @@ func readPublic(ek []byte) (public, api.Errno) {
 // generate is K-PKE's KeyGen of 32 bytes: the public key, and the secret row.
 func generate(d []byte) (ek, dk []byte) {
 	rho, sigma := halves(d, []byte{rank})
-	secret := noises(sigma, 0).each(ring.Poly.NTT)
+	hidden := noises(sigma, 0).each(ring.Poly.NTT)
 	off := noises(sigma, rank).each(ring.Poly.NTT)
-	known := secret.through(matrix(rho).line).both(off, ring.Poly.Add)
-	return flat.Cat(known.written(keyDigits), rho), secret.written(keyDigits)
+	shown := hidden.through(matrix(rho).line).both(off, ring.Poly.Add)
+	return flat.Cat(shown.written(keyDigits), rho), hidden.written(keyDigits)
 }
 
 // encrypt is K-PKE's Encrypt of a text of 32 bytes, with 32 bytes that the noise is drawn from.
